@@ -1,0 +1,1 @@
+"""Fields over the numbers of one prime, and their members."""

@@ -1,0 +1,161 @@
+"""Reckoning with low members and members that are known to be such, exact and without limits.
+
+A field is passed as it is; nothing here checks it or the members.
+"""
+
+from wildsteps.prime.whole import exponent_of, whole_power
+
+
+def whole_low(size, number):
+    """The low member that is an integer."""
+    return (number,) + (0,) * (size - 1)
+
+
+def low_sum(one, other):
+    """The sum of two low members."""
+    return tuple([number + further for number, further in zip(one, other)])
+
+
+def low_product(low, one, other):
+    """The product of two low members, modulo the monic low polynomial."""
+    size = len(low) - 1
+    row = [0] * (2 * size - 1)
+    for place, number in enumerate(one):
+        for further, factor in enumerate(other):
+            row[place + further] += number * factor
+    for place in range(2 * size - 2, size - 1, -1):
+        head = row[place]
+        for further in range(size):
+            row[place - size + further] -= head * low[further]
+    return tuple(row[:size])
+
+
+def low_product_modulo(low, one, other, modulus):
+    """The product of two low members, each integer a rest."""
+    return tuple([number % modulus for number in low_product(low, one, other)])
+
+
+def low_power_modulo(low, base, exponent, modulus):
+    """The power of a low member, each integer a rest."""
+    result = tuple([number % modulus for number in whole_low(len(low) - 1, 1)])
+    square = base
+    left = exponent
+    while left > 0:
+        if left & 1:
+            result = low_product_modulo(low, result, square, modulus)
+        left = left >> 1
+        if left > 0:
+            square = low_product_modulo(low, square, square, modulus)
+    return result
+
+
+def with_low(field, low_member):
+    """The member that is a low member."""
+    rest = (0,) * field.plain_size
+    return (low_member,) + (rest,) * (field.step_size - 1)
+
+
+def whole(field, number):
+    """The member that is an integer."""
+    return with_low(field, whole_low(field.plain_size, number))
+
+
+def plus(one, other):
+    """The sum of two members."""
+    return tuple([low_sum(row, further) for row, further in zip(one, other)])
+
+
+def times_whole(member, number):
+    """The member times an integer."""
+    return tuple([tuple([number * entry for entry in row]) for row in member])
+
+
+def minus(one, other):
+    """The difference of two members."""
+    return plus(one, times_whole(other, -1))
+
+
+def less_multiple(rows, place, low, top):
+    """Take the low member at the place of the rows times a power of r and the top polynomial away."""
+    step_size = len(top) - 1
+    head = times_whole((rows[place],), -1)[0]
+    for further in range(step_size):
+        at = place - step_size + further
+        rows[at] = low_sum(rows[at], low_product(low, head, top[further]))
+
+
+def times(field, one, other):
+    """The product of two members, modulo the monic top polynomial."""
+    low, top = field.low, field.top
+    step_size = len(top) - 1
+    rows = [(0,) * (len(low) - 1)] * (2 * step_size - 1)
+    for place, number in enumerate(one):
+        for further, factor in enumerate(other):
+            at = place + further
+            rows[at] = low_sum(rows[at], low_product(low, number, factor))
+    for place in range(2 * step_size - 2, step_size - 1, -1):
+        less_multiple(rows, place, low, top)
+    return tuple(rows[:step_size])
+
+
+def times_often(field, member, exponent):
+    """The power of a member."""
+    result = whole(field, 1)
+    for _ in range(exponent):
+        result = times(field, result, member)
+    return result
+
+
+def value_in(field, member):
+    """The value of a member, None for 0."""
+    prime, step_size = field.prime, field.step_size
+    values = []
+    for place, row in enumerate(member):
+        values.extend([step_size * exponent_of(prime, entry) + place for entry in row if entry != 0])
+    return min(values, default=None)
+
+
+def rests_to(member, modulus):
+    """The member with each integer a rest."""
+    return tuple([tuple([entry % modulus for entry in row]) for row in member])
+
+
+def plain_depth(field, level):
+    """The least integer k for which p ** k has a value of at least the level."""
+    return (level + field.step_size - 1) // field.step_size
+
+
+def nearest(field, member, level):
+    """The only member near to this one to the level whose integers are rests."""
+    rows = []
+    for place, row in enumerate(member):
+        # As the value at r ** j is e k + j, later rows need fewer powers of the prime.
+        depth = (level - place + field.step_size - 1) // field.step_size
+        modulus = whole_power(field.prime, depth)
+        rows.append(tuple([entry % modulus for entry in row]))
+    return tuple(rows)
+
+
+def are_close(field, one, other, level):
+    """Whether two members are near to the level."""
+    return nearest(field, one, level) == nearest(field, other, level)
+
+
+def letter_t(field):
+    """The letter t as a low member."""
+    if field.plain_size == 1:
+        return (-field.low[0],)
+    return (0, 1) + (0,) * (field.plain_size - 2)
+
+
+def letter_r(field):
+    """The letter r as a member."""
+    if field.step_size == 1:
+        return times_whole((field.top[0],), -1)
+    empty = (0,) * field.plain_size
+    return (empty, whole_low(field.plain_size, 1)) + (empty,) * (field.step_size - 2)
+
+
+def entries_of(member):
+    """All integers of a member in one list."""
+    return [entry for row in member for entry in row]

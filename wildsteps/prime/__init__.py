@@ -1,0 +1,1 @@
+"""Numbers, polynomials and broken lines, seen from one prime."""
