@@ -482,8 +482,15 @@ class WrongInputsTest(unittest.TestCase, ErrorCase):
                 fits = sizes == (field.step_size, field.plain_size)
                 self.assertIs(is_member(field, member), fits)
                 if not fits:
+                    one = whole_member(field, 1)
                     for function in (member_value, norm_of, trace_of, polynomial_of):
                         self.assert_raises_just(InvalidMember, function, field, member)
+                    for function in (near_member, digits_of, member_power):
+                        self.assert_raises_just(InvalidMember, function, field, member, 1)
+                    for function in (member_sum, member_difference, member_product):
+                        self.assert_raises_just(InvalidMember, function, field, member, one)
+                        self.assert_raises_just(InvalidMember, function, field, one, member)
+                    self.assert_raises_just(InvalidMember, are_near, field, one, member, 1)
 
     def test_then_comes_last(self):
         longest = long_member(A)

@@ -189,6 +189,15 @@ class NearRootsTest(unittest.TestCase, ErrorCase):
         self.assertEqual(near_integer_root(2, (-9, 0, 1), 5, 10), 2 ** 10 - 3)
         self.assertEqual(near_integer_root(3, (-10 ** 59, 1), 10 ** 59, 66), 10 ** 59 % 3 ** 66)
         self.assertEqual(near_integer_root(5, (1, 0, 1), 2, 3), 57)
+        for prime, k in ((2, 4), (2, 7), (3, 5), (5, 4), (7, 3)):
+            # The roots of this square are 2 p ** k times those of 1 + 8 p.
+            square = (2 * prime ** k) ** 2 * (1 + 8 * prime)
+            polynomial, start = (-square, 0, 1), 2 * prime ** k
+            last = near_integer_root(prime, polynomial, start, 66)
+            depth = exponent(prime, 2 * start)
+            self.assertTrue(at_least(exponent(prime, last ** 2 - square), 66 + depth))
+            for level in range(67):
+                self.assertEqual(near_integer_root(prime, polynomial, start, level), last % prime ** level)
         # The level 0 tells nothing, also if the root is far from 0.
         self.assertEqual(near_integer_root(5, (1, 0, 1), 2, 0), 0)
 
@@ -271,6 +280,26 @@ class PowersTest(unittest.TestCase, ErrorCase):
         self.assertIs(is_power_paper(2, 2 * 5, 2, ("rests", 3)), True)
         self.assertIs(is_power_paper(2, 2 * 17, 2, ("rests", 3)), False)
         self.assertIs(is_power_paper(2, 2 * 17, 2, ("root", 1)), False)
+
+    def test_roots_by_their_words(self):
+        draw = drawer(10)
+        found = {True: 0, False: 0}
+        for prime in PRIMES:
+            for n in (1, 2, 3, 4, 5, 6, 7, 8, 9, 10, 12):
+                for _ in range(40):
+                    root = Fraction(draw.randint(1, 60), draw.randint(1, 9)) * Fraction(prime) ** draw.randint(-3, 3)
+                    root = root * draw.choice((1, -1))
+                    change = draw.choice((1, prime, prime ** 2, prime ** 3, prime ** 5, prime ** 7)) * draw.randint(-3, 3)
+                    number = root ** n * (1 + change)
+                    if not number or max(abs(number.numerator), number.denominator) >= BIG:
+                        continue
+                    near = at_least(exponent(prime, root ** n / number - 1), 2 * exponent(prime, n) + 1)
+                    told = is_power_paper(prime, ratio_of(number), n, ("root", ratio_of(root)))
+                    self.assertIs(told, near)
+                    found[told] += 1
+        self.assertGreater(min(found.values()), 300)
+        self.assertIs(is_power_paper(2, 12, 2, ("root", 2)), False)
+        self.assertIs(is_power_paper(2, (3, 4), 2, ("root", (1, 2))), False)
 
     def test_rests_need_enough_levels(self):
         for c in range(1, 67):

@@ -123,6 +123,13 @@ class RootsOfOneTest(unittest.TestCase, ErrorCase):
                 self.assertIs(is_root_of_one(field, digit, level - 1, off), True)
             self.assertIs(is_root_of_one(field, digit, 0, drawn_member(draw, field)), True)
 
+    def test_roots_of_orders_that_the_prime_divides(self):
+        # They are no roots of one of a digit: these have orders that divide q - 1.
+        self.assertEqual(ring.power(A, ((1,), (1,)), 4), ring.whole(A, 1))
+        self.assertIs(is_root_of_one(A, (1,), 66, ring.whole(A, 1)), True)
+        self.assertIs(is_root_of_one(A, (1,), 2, ((1,), (1,))), False)
+        self.assertIs(is_root_of_one(Field.plain(5, 1), (2,), 2, ((2,),)), False)
+
     def test_zero(self):
         for field in FIELDS:
             zero = (0,) * field.plain_size

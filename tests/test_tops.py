@@ -79,6 +79,12 @@ class PolynomialsTest(unittest.TestCase, ErrorCase):
             self.assertEqual(plain_polynomial(field, top_letter(field)), field.top)
             self.assertEqual(field_by(field, top_letter(field)), field)
 
+    def test_two_members_with_one_polynomial(self):
+        one, other = top_letter(A), ((-2,), (-1,))
+        self.assertEqual(member_value(A, other), 1)
+        self.assertEqual(plain_polynomial(A, one), plain_polynomial(A, other))
+        self.assertEqual(field_by(A, other), A)
+
     def test_longer_integers(self):
         told = plain_polynomial(C, long_member(C))
         self.assertGreater(max(abs(row[0]) for row in told), BIG)
