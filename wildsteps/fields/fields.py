@@ -6,7 +6,7 @@ from wildsteps.errors import InvalidField, InvalidMember, InvalidOperation, Inva
 from wildsteps.fields.members import are_close, entries_of, letter_r, letter_t, minus, nearest, plus
 from wildsteps.fields.members import times, times_often, value_in, whole, whole_low, with_low
 from wildsteps.fields.near import digit_row
-from wildsteps.fields.tables import whole_characteristic
+from wildsteps.fields.tables import whole_characteristic, whole_norm, whole_trace
 from wildsteps.prime.numbers import MAX_LEVEL, check_level, check_prime
 from wildsteps.prime.rests import is_irreducible_modulo, least_low
 from wildsteps.prime.whole import whole_power
@@ -264,12 +264,13 @@ def polynomial_of(field, member):
 
 def norm_of(field, member):
     """The determinant of the multiplication by a member, of any length."""
-    constant = polynomial_of(field, member)[0]
-    if field.degree % 2 == 1:
-        return -constant
-    return constant
+    check_field(field)
+    check_member(field, member)
+    return whole_norm(field, member)
 
 
 def trace_of(field, member):
     """The sum of the diagonal of the multiplication by a member, of any length."""
-    return -polynomial_of(field, member)[-2]
+    check_field(field)
+    check_member(field, member)
+    return whole_trace(field, member)

@@ -16,18 +16,34 @@ def low_sum(one, other):
     return tuple([number + further for number, further in zip(one, other)])
 
 
+def less_heads(row, polynomial):
+    """The polynomial with the numbers of the row, modulo a monic one: as many numbers as its degree."""
+    size = len(polynomial) - 1
+    left = row
+    for place in range(len(row) - 1, size - 1, -1):
+        head = left[place]
+        if head != 0:
+            start = place - size
+            for further in range(size):
+                left[start + further] -= head * polynomial[further]
+    return tuple(left[:size])
+
+
+def row_product(one, other):
+    """The numbers of the product of two polynomials, in a new list."""
+    row = [0] * (len(one) + len(other) - 1)
+    for place, number in enumerate(one):
+        if number != 0:
+            for further, factor in enumerate(other):
+                row[place + further] += number * factor
+    return row
+
+
 def low_product(low, one, other):
     """The product of two low members, modulo the monic low polynomial."""
-    size = len(low) - 1
-    row = [0] * (2 * size - 1)
-    for place, number in enumerate(one):
-        for further, factor in enumerate(other):
-            row[place + further] += number * factor
-    for place in range(2 * size - 2, size - 1, -1):
-        head = row[place]
-        for further in range(size):
-            row[place - size + further] -= head * low[further]
-    return tuple(row[:size])
+    if len(low) == 2:
+        return (one[0] * other[0],)
+    return less_heads(row_product(one, other), low)
 
 
 def low_product_modulo(low, one, other, modulus):
@@ -62,7 +78,7 @@ def whole(field, number):
 
 def plus(one, other):
     """The sum of two members."""
-    return tuple([low_sum(row, further) for row, further in zip(one, other)])
+    return tuple([tuple([a + b for a, b in zip(row, further)]) for row, further in zip(one, other)])
 
 
 def times_whole(member, number):
@@ -72,27 +88,57 @@ def times_whole(member, number):
 
 def minus(one, other):
     """The difference of two members."""
-    return plus(one, times_whole(other, -1))
+    return tuple([tuple([a - b for a, b in zip(row, further)]) for row, further in zip(one, other)])
+
+
+def times_low(field, member, low_member):
+    """The member times a low member."""
+    low = field.low
+    return tuple([low_product(low, row, low_member) for row in member])
 
 
 def less_multiple(rows, place, low, top):
     """Take the low member at the place of the rows times a power of r and the top polynomial away."""
-    step_size = len(top) - 1
-    head = times_whole((rows[place],), -1)[0]
-    for further in range(step_size):
-        at = place - step_size + further
-        rows[at] = low_sum(rows[at], low_product(low, head, top[further]))
+    head = rows[place]
+    if any(head):
+        start = place - len(top) + 1
+        for further in range(len(top) - 1):
+            product = low_product(low, head, top[further])
+            rows[start + further] = tuple([a - b for a, b in zip(rows[start + further], product)])
+
+
+def times_r(field, member):
+    """The member times r."""
+    low, top = field.low, field.top
+    rows = [(0,) * (len(low) - 1)] + list(member)
+    less_multiple(rows, len(member), low, top)
+    return tuple(rows[:-1])
+
+
+def rows_product(size, one, other):
+    """The product of two members as rows of integers, without any replacement, in a new list."""
+    rows = [[0] * (2 * size - 1) for _ in range(2 * len(one) - 1)]
+    for place, number in enumerate(one):
+        for further, factor in enumerate(other):
+            row = rows[place + further]
+            for index, entry in enumerate(number):
+                if entry != 0:
+                    for behind, share in enumerate(factor):
+                        row[index + behind] += entry * share
+    return rows
 
 
 def times(field, one, other):
     """The product of two members, modulo the monic top polynomial."""
     low, top = field.low, field.top
     step_size = len(top) - 1
-    rows = [(0,) * (len(low) - 1)] * (2 * step_size - 1)
-    for place, number in enumerate(one):
-        for further, factor in enumerate(other):
-            at = place + further
-            rows[at] = low_sum(rows[at], low_product(low, number, factor))
+    if step_size == 1:
+        return (low_product(low, one[0], other[0]),)
+    if len(low) == 2:
+        # Here low members are plain integers, which spares most of the work.
+        row = row_product([entry[0] for entry in one], [entry[0] for entry in other])
+        return tuple([(entry,) for entry in less_heads(row, [entry[0] for entry in top])])
+    rows = [less_heads(row, low) for row in rows_product(len(low) - 1, one, other)]
     for place in range(2 * step_size - 2, step_size - 1, -1):
         less_multiple(rows, place, low, top)
     return tuple(rows[:step_size])

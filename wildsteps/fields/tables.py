@@ -1,80 +1,110 @@
-"""Tables of multiplications by a member, and their characteristic polynomials."""
+"""Tables of multiplications by a member, their determinants, traces and characteristic polynomials."""
 
-from wildsteps.fields.members import entries_of, letter_r, low_product, low_sum, times, whole_low, with_low
+from wildsteps.fields.members import entries_of, less_heads, low_product, times, times_r, whole_low
+from wildsteps.prime.determinants import determinant
 
 
-def plain_table(field, member):
-    """The table of the multiplication on the powers of r: low members as entries."""
-    rows = [member]
-    for _ in range(field.step_size - 1):
-        rows.append(times(field, rows[-1], letter_r(field)))
+def letter_rows(low, low_member):
+    """The low member times each power of t below the plain size."""
+    rows = [low_member]
+    for _ in range(len(low) - 2):
+        rows.append(less_heads([0] + list(rows[-1]), low))
     return rows
-
-
-def letter_powers(field):
-    """The powers of t below the plain size, as members."""
-    size = field.plain_size
-    rows = [(0,) * place + (1,) + (0,) * (size - 1 - place) for place in range(size)]
-    return [with_low(field, row) for row in rows]
 
 
 def whole_table(field, member):
-    """The table of the multiplication on all t ** i r ** j: low members of size 1 as entries."""
+    """The table of the multiplication on all t ** i r ** j: a list of integers for each of them."""
+    low = field.low
     table = []
-    for row in plain_table(field, member):
-        for letter in letter_powers(field):
-            table.append([(entry,) for entry in entries_of(times(field, row, letter))])
+    row = member
+    for place in range(field.step_size):
+        if place > 0:
+            row = times_r(field, row)
+        columns = [letter_rows(low, low_member) for low_member in row]
+        for index in range(len(low) - 1):
+            table.append([entry for column in columns for entry in column[index]])
     return table
 
 
-def table_entry(low, one, other, place, column):
-    """The entry of the product of two tables."""
-    result = whole_low(len(low) - 1, 0)
-    for index, entry in enumerate(one[place]):
-        result = low_sum(result, low_product(low, entry, other[index][column]))
-    return result
+def whole_norm(field, member):
+    """The norm of a member."""
+    return determinant(whole_table(field, member))
 
 
-def table_product(low, one, other):
-    """The product of two square tables."""
-    many = len(one)
-    return [[table_entry(low, one, other, place, column) for column in range(many)] for place in range(many)]
+def low_sums(low, top):
+    """The traces of r ** 0, r ** 1, .. below the step size, over the plain part: low members."""
+    size, step_size = len(low) - 1, len(top) - 1
+    sums = [whole_low(size, step_size)]
+    for count in range(1, step_size):
+        # The sums of the powers of the roots, by the numbers of the polynomial of which they are roots.
+        total = [count * entry for entry in top[step_size - count]]
+        for place in range(1, count):
+            product = low_product(low, top[step_size - place], sums[count - place])
+            total = [a + b for a, b in zip(total, product)]
+        sums.append(tuple([-entry for entry in total]))
+    return sums
 
 
-def with_diagonal(table, number):
-    """The table with the low member added along its diagonal."""
-    rows = [list(row) for row in table]
-    for place, row in enumerate(table):
-        rows[place][place] = low_sum(row[place], number)
-    return rows
+def plain_trace(low, sums, member):
+    """The trace of a member over the plain part, by the traces of the powers of r."""
+    total = (0,) * (len(low) - 1)
+    for row, share in zip(member, sums):
+        total = [a + b for a, b in zip(total, low_product(low, row, share))]
+    return tuple(total)
 
 
-def diagonal_sum(size, table):
-    """The sum of the diagonal."""
-    result = whole_low(size, 0)
-    for place, row in enumerate(table):
-        result = low_sum(result, row[place])
-    return result
+def trace_rows(field):
+    """The traces of r ** j over the plain part, and those of t ** i over the numbers of the prime."""
+    low = field.low
+    letters = [entry[0] for entry in low_sums((0, 1), [(entry,) for entry in low])]
+    return low_sums(low, field.top), letters
 
 
-def characteristic(low, table):
-    """The determinant of x less the table: low members, the one at x ** 0 first."""
+def number_trace(low, sums, letters, member):
+    """The trace of a member, by the traces of the powers of both letters."""
+    total = plain_trace(low, sums, member)
+    return sum([entry * share for entry, share in zip(total, letters)])
+
+
+def whole_trace(field, member):
+    """The trace of a member."""
+    sums, letters = trace_rows(field)
+    return number_trace(field.low, sums, letters, member)
+
+
+def powers_of(field, member, many):
+    """The first powers of a member, from the first one on."""
+    powers = [member]
+    for _ in range(many - 1):
+        powers.append(times(field, powers[-1], member))
+    return powers
+
+
+def numbers_by_sums(low, sums):
+    """The monic polynomial over the plain part whose roots have these sums of powers, from the first one on."""
     size = len(low) - 1
-    many = len(table)
     numbers = [whole_low(size, 1)]
-    product = [[whole_low(size, 0)] * many for _ in range(many)]
-    for count in range(1, many + 1):
-        product = table_product(low, table, with_diagonal(product, numbers[-1]))
+    for count in range(1, len(sums) + 1):
+        total = [0] * size
+        for place in range(1, count + 1):
+            product = low_product(low, numbers[count - place], sums[place - 1])
+            total = [a - b for a, b in zip(total, product)]
         # The sum is a multiple of the count: the numbers are those of a polynomial over a ring.
-        numbers.append(tuple([-entry // count for entry in diagonal_sum(size, product)]))
+        numbers.append(tuple([entry // count for entry in total]))
     return tuple(numbers[::-1])
 
 
 def plain_characteristic(field, member):
-    """The polynomial of a member over the plain part."""
-    return characteristic(field.low, plain_table(field, member))
+    """The polynomial of a member over the plain part: low members, the one at x ** 0 first."""
+    low = field.low
+    sums = low_sums(low, field.top)
+    powers = powers_of(field, member, field.step_size)
+    return numbers_by_sums(low, [plain_trace(low, sums, power) for power in powers])
 
 
 def whole_characteristic(field, member):
     """The polynomial of a member over the integers."""
-    return tuple(entries_of(characteristic((0, 1), whole_table(field, member))))
+    sums, letters = trace_rows(field)
+    powers = powers_of(field, member, field.degree)
+    told = [(number_trace(field.low, sums, letters, power),) for power in powers]
+    return tuple(entries_of(numbers_by_sums((0, 1), told)))
