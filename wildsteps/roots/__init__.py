@@ -1,0 +1,1 @@
+"""Near roots, fences, and leads from field to field."""

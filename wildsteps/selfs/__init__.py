@@ -1,0 +1,1 @@
+"""Self maps of fields, and the fields within that they leave."""

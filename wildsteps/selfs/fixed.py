@@ -1,0 +1,134 @@
+"""Polynomials with integers for the fields within that lots of self maps leave."""
+
+from wildsteps.checks import is_integer_tuple
+from wildsteps.fields.members import plus, rests_to, times, times_whole, whole
+from wildsteps.fields.tables import number_trace, trace_rows
+from wildsteps.parts.parts import MAX_CLOSE, closeness, is_unsplit
+from wildsteps.prime.whole import digits_in_base, exponent_of, inverse_modulo, whole_power
+from wildsteps.roots.balls import roots_by_depth
+from wildsteps.roots.leads import found_leads, image_near
+from wildsteps.roots.near import slope_value
+from wildsteps.roots.over import whole_over
+from wildsteps.selfs.images import leaving_maps, map_images
+
+NEAR_LEVEL = 80
+MOST_DEPTH = 66
+
+
+def letter_member(field, place, index):
+    """The product of powers of both letters, with 1 at one place alone."""
+    rows = [[0] * field.plain_size for _ in range(field.step_size)]
+    rows[place][index] = 1
+    return tuple([tuple(row) for row in rows])
+
+
+def letter_members(field):
+    """The products of powers of both letters other than 1."""
+    found = []
+    for place in range(field.step_size):
+        found.extend([letter_member(field, place, index) for index in range(field.plain_size)])
+    return found[1:]
+
+
+def added_images(field, leads, part, level):
+    """The sums of what the maps of a part make of the products of powers of both letters."""
+    images = map_images(field, [leads[index] for index in part], level)
+    found = []
+    for member in letter_members(field):
+        total = whole(field, 0)
+        for image in images:
+            total = plus(total, image_near(field, field, image, member, level))
+        found.append(total)
+    return found
+
+
+def quotient_near(prime, modulus, number, divisor):
+    """The quotient of a rest and of an integer that divides what it stands for."""
+    power = whole_power(prime, exponent_of(prime, divisor))
+    return number * inverse_modulo(divisor // power, modulus) % modulus // power
+
+
+def polynomial_by_sums(prime, modulus, sums):
+    """The monic polynomial whose roots have these sums of powers, from the first one on, in rests."""
+    numbers = [1]
+    for count in range(1, len(sums) + 1):
+        total = sum([numbers[count - place] * sums[place - 1] for place in range(1, count + 1)])
+        numbers.append(quotient_near(prime, modulus, -total % modulus, count))
+    return tuple(numbers[::-1])
+
+
+def polynomial_within(field, member, size, degree, modulus):
+    """The polynomial of a member that all maps of a part of the size leave, of the degree of the field within."""
+    rows, letters = trace_rows(field)
+    sums = []
+    power = whole(field, 1)
+    for _ in range(degree):
+        power = rests_to(times(field, power, member), modulus)
+        trace = number_trace(field.low, rows, letters, power)
+        # Over the field within each trace is that of the whole field, divided by the size of the part.
+        sums.append(quotient_near(field.prime, modulus, trace % modulus, size))
+    return polynomial_by_sums(field.prime, modulus, sums)
+
+
+def mixed(field, members, shares):
+    """The sum of members, each times an integer."""
+    result = whole(field, 0)
+    for member, share in zip(members, shares):
+        result = plus(result, times_whole(member, share))
+    return result
+
+
+def is_close_enough(field, value):
+    """Whether polynomials with a discriminant of this value have parts, and roots that can be told."""
+    return value is not None and value <= MAX_CLOSE and field.step_size * value <= MOST_DEPTH
+
+
+def fixed_polynomial(field, part):
+    """A polynomial with integers whose roots make the field that a part leaves."""
+    degree = field.degree // len(part)
+    if degree == 1:
+        return (0, 1)
+    leads = found_leads(field, field)
+    members = added_images(field, leads, part, NEAR_LEVEL * field.step_size)
+    modulus = whole_power(field.prime, NEAR_LEVEL)
+    index = 1
+    while True:
+        member = mixed(field, members, digits_in_base(field.prime, index, len(members)))
+        polynomial = polynomial_within(field, member, len(part), degree, modulus)
+        value = closeness(field.prime, polynomial)
+        if is_close_enough(field, value):
+            return near_polynomial(field.prime, polynomial, value)
+        index = index + 1
+
+
+def near_polynomial(prime, polynomial, value):
+    """A monic polynomial near enough to have the same fields, with rests as numbers."""
+    modulus = whole_power(prime, 2 * value + 1)
+    return tuple([number % modulus for number in polynomial[:-1]]) + (1,)
+
+
+def is_monic(value, degree):
+    """Whether the value is a monic polynomial of the degree, with integers of any length."""
+    return is_integer_tuple(value) and len(value) == degree + 1 and value[-1] == 1
+
+
+def has_left_root(field, part, polynomial, value):
+    """Whether a root in the field of a polynomial, its discriminant having the value, is left by all of a part."""
+    leads = found_leads(field, field)
+    numbers = whole_over(field, polynomial)
+    for root in roots_by_depth(field, numbers, field.step_size * value):
+        kept = leaving_maps(field, leads, root, slope_value(field, numbers, root))
+        if all([index in kept for index in part]):
+            return True
+    return False
+
+
+def judged_polynomial(field, part, value):
+    """Whether the value is a polynomial for the field that a part leaves."""
+    if not is_monic(value, field.degree // len(part)):
+        return False
+    closest = closeness(field.prime, value)
+    if closest is None or closest > MAX_CLOSE:
+        return False
+    polynomial = near_polynomial(field.prime, value, closest)
+    return is_unsplit(field.prime, polynomial) and has_left_root(field, part, polynomial, closest)
