@@ -202,6 +202,21 @@ def letter_r(field):
     return (empty, whole_low(field.plain_size, 1)) + (empty,) * (field.step_size - 2)
 
 
+def letter_member(field, place, index):
+    """The product of r to the place and of t to the index, both below the sizes."""
+    rows = [[0] * field.plain_size for _ in range(field.step_size)]
+    rows[place][index] = 1
+    return tuple([tuple(row) for row in rows])
+
+
+def letter_members(field):
+    """The products of powers of both letters, from 1 on."""
+    found = []
+    for place in range(field.step_size):
+        found.extend([letter_member(field, place, index) for index in range(field.plain_size)])
+    return found
+
+
 def entries_of(member):
     """All integers of a member in one list."""
     return [entry for row in member for entry in row]

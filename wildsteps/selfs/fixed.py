@@ -1,7 +1,7 @@
 """Polynomials with integers for the fields within that lots of self maps leave."""
 
 from wildsteps.checks import is_integer_tuple
-from wildsteps.fields.members import plus, rests_to, times, times_whole, whole
+from wildsteps.fields.members import letter_members, plus, rests_to, times, times_whole, whole
 from wildsteps.fields.tables import number_trace, trace_rows
 from wildsteps.parts.parts import MAX_CLOSE, closeness, is_unsplit
 from wildsteps.prime.whole import digits_in_base, exponent_of, inverse_modulo, whole_power
@@ -15,26 +15,11 @@ NEAR_LEVEL = 80
 MOST_DEPTH = 66
 
 
-def letter_member(field, place, index):
-    """The product of powers of both letters, with 1 at one place alone."""
-    rows = [[0] * field.plain_size for _ in range(field.step_size)]
-    rows[place][index] = 1
-    return tuple([tuple(row) for row in rows])
-
-
-def letter_members(field):
-    """The products of powers of both letters other than 1."""
-    found = []
-    for place in range(field.step_size):
-        found.extend([letter_member(field, place, index) for index in range(field.plain_size)])
-    return found[1:]
-
-
 def added_images(field, leads, part, level):
     """The sums of what the maps of a part make of the products of powers of both letters."""
     images = map_images(field, [leads[index] for index in part], level)
     found = []
-    for member in letter_members(field):
+    for member in letter_members(field)[1:]:
         total = whole(field, 0)
         for image in images:
             total = plus(total, image_near(field, field, image, member, level))

@@ -1,0 +1,1 @@
+"""Steps of fields: exponents, counts, complete lists, step lines, towers, and lots of self maps."""
