@@ -167,7 +167,7 @@ class NearRootTest(unittest.TestCase, ErrorCase):
                     continue
                 for m in near_roots(field, g):
                     count += 1
-                    for level in (0, 1, 2, 13, 40, 65, 66):
+                    for level in (0, 1, 2, 3, 4, 5, 6, 8, 10, 13, 40, 65, 66):
                         self.check_nearer(field, g, m, level)
         self.assertGreater(count, 100)
 

@@ -109,12 +109,11 @@ class MapsTest(unittest.TestCase, ErrorCase):
             member = drawn_member(draw, field)
             self.assertTrue(ring.near(field, led_member(field, field, told[identity], member, 66), member, 66))
             # First the map j, and then the map i.
-            for i in range(n):
-                for k in range(n):
-                    for m in (member, low_letter(field), top_letter(field)):
-                        first = led_member(field, field, told[k], m, 66)
-                        both = led_member(field, field, told[i], first, 66)
-                        self.assertEqual(both, led_member(field, field, told[table[i][k]], m, 66))
+            for m in (member, low_letter(field), top_letter(field)):
+                led = [led_member(field, field, pair, m, 20) for pair in told]
+                for i in range(n):
+                    for k in range(n):
+                        self.assertEqual(led_member(field, field, told[i], led[k], 20), led[table[i][k]])
 
     def test_maps_that_leave_t(self):
         for field in MORE:
@@ -187,13 +186,14 @@ class WithinTest(unittest.TestCase, ErrorCase):
         for field in (A, B, C, D, ROUND, SQUARES, SIX, CUBE, CYCLIC, PLAIN[5], PLAIN[3], LINES):
             parts = self_parts(field)
             told = {part: part_polynomial(field, part) for part in parts}
+            maps = self_maps(field)
             for part in parts:
                 for other in parts:
                     same = is_part_polynomial(field, part, told[other])
                     if part == other or len(part) != len(other):
                         self.assertIs(same, part == other)
                     else:
-                        self.assertIs(same, self.is_left(field, self_maps(field), part, told[other]))
+                        self.assertIs(same, self.is_left(field, maps, part, told[other]))
                 polynomial = told[part]
                 bound = 2 * value_of_discriminant(field.prime, polynomial) + 1
                 far = (polynomial[0] + field.prime ** (bound + 600),) + polynomial[1:]
@@ -220,14 +220,14 @@ class WithinTest(unittest.TestCase, ErrorCase):
 
     def test_least_roots(self):
         for field in MORE:
-            maps = self_maps(field)
-            for part in self_parts(field):
+            maps, parts = self_maps(field), self_parts(field)
+            for part in parts:
                 polynomial = part_polynomial(field, part)
                 if field.step_size * value_of_discriminant(field.prime, polynomial) > 66:
                     self.assert_too_many(66, fixed_maps, field, polynomial)
                     continue
                 told = fixed_maps(field, polynomial)
-                self.assertIn(told, self_parts(field))
+                self.assertIn(told, parts)
                 self.assertEqual(fixed_size(field, told), fixed_size(field, part))
                 numbers = over.whole_over(field, polynomial)
                 least = near_roots(field, numbers)[0]
