@@ -17,12 +17,12 @@ BUILTINS = set("""len range enumerate zip min max sum abs sorted reversed int st
 METHODS = set("""append clear copy count endswith extend find get index insert isalnum isalpha isdigit islower isspace
     isupper items join keys ljust lower lstrip partition pop remove replace reverse rfind rjust rpartition rsplit
     rstrip setdefault split splitlines startswith strip update upper values zfill bit_length""".split())
-SPECIAL = {"__init__", "__eq__", "__str__", "__repr__", "__len__"}
+SPECIAL = {"__init__", "__eq__", "__str__", "__repr__", "__len__", "__contains__"}
 WORDS = ("typing", "typing_extensions", "enum", "Enum", "Protocol", "ABC", "namedtuple", "dataclass", "overload",
          "contextmanager", "_wall", "_WallAttr")
 NEVER = {"register", "mro", "elements", "open", "input", "law", "version_info", "with_traceback", "add_note"}
 STATEMENTS = (ast.Assign, ast.AugAssign, ast.If, ast.While, ast.For, ast.Return, ast.Break, ast.Continue, ast.Pass,
-              ast.Raise, ast.Expr, ast.FunctionDef, ast.ClassDef, ast.ImportFrom, ast.Delete, ast.Assert)
+              ast.Raise, ast.Expr, ast.FunctionDef, ast.ClassDef, ast.ImportFrom, ast.Delete, ast.Assert, ast.Try)
 BANNED = (ast.GeneratorExp, ast.Lambda, ast.Await, ast.Yield, ast.YieldFrom, ast.Div, ast.MatMult, ast.SetComp, ast.Set,
           ast.NamedExpr, ast.AnnAssign)
 
@@ -133,12 +133,24 @@ class LanguageTest(unittest.TestCase):
                     self.assertIn(node.comparators[0].value, (None, True, False))
                 if isinstance(node, (ast.FunctionDef, ast.ClassDef)):
                     self.check_decorators(node)
+                if isinstance(node, ast.Try):
+                    self.check_handlers(node)
+
+    def check_handlers(self, node):
+        """Only errors of the package are caught, by their names."""
+        self.assertFalse(node.finalbody)
+        own = set(defined(TREES["wildsteps.errors"]))
+        for handler in node.handlers:
+            kinds = handler.type.elts if isinstance(handler.type, ast.Tuple) else [handler.type]
+            self.assertTrue({kind.id for kind in kinds} <= own)
 
     def check_decorators(self, node):
         names = [decorator.id for decorator in node.decorator_list]
         self.assertIn(names, ([], ["property"], ["classmethod"], ["staticmethod"]))
         if isinstance(node, ast.FunctionDef):
-            self.assertFalse(node.args.defaults or node.args.vararg or node.args.kwarg)
+            self.assertFalse(node.args.vararg or node.args.kwarg or node.args.posonlyargs)
+            for default in node.args.defaults + node.args.kw_defaults:
+                self.assertIsInstance(default, ast.Constant)
             self.assertIsNone(node.returns)
             if node.name.startswith("__"):
                 self.assertIn(node.name, SPECIAL)

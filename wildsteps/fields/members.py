@@ -43,6 +43,10 @@ def low_product(low, one, other):
     """The product of two low members, modulo the monic low polynomial."""
     if len(low) == 2:
         return (one[0] * other[0],)
+    if len(low) == 3:
+        # So few integers are faster taken by name.
+        head = one[1] * other[1]
+        return (one[0] * other[0] - low[0] * head, one[0] * other[1] + one[1] * other[0] - low[1] * head)
     return less_heads(row_product(one, other), low)
 
 

@@ -3,16 +3,43 @@
 Members are told by rests modulo a power of the prime, the modulus.
 """
 
-from wildsteps.fields.members import letter_t, low_product, low_product_modulo, low_sum, minus, plus
-from wildsteps.fields.members import rests_to, times, times_whole, whole, whole_low, with_low
+from wildsteps.fields.members import letter_r, letter_t, low_product, low_product_modulo, low_sum, minus, plus
+from wildsteps.fields.members import rests_to, times, times_r, times_whole, whole, whole_low, with_low
 from wildsteps.fields.residues import residue_inverse, residue_of, residue_power, residue_value
 from wildsteps.prime.polys import derived
 from wildsteps.prime.whole import whole_power
+
+# Up to so many powers of r are faster taken one by one.
+MOST_TURNS = 6
 
 
 def near_product(field, one, other, modulus):
     """The product, each integer a rest."""
     return rests_to(times(field, one, other), modulus)
+
+
+def near_power(field, member, exponent, modulus):
+    """The power of a member, each integer a rest."""
+    result = None
+    square = rests_to(member, modulus)
+    left = exponent
+    while left > 0:
+        if left & 1:
+            result = square if result is None else near_product(field, result, square, modulus)
+        left = left >> 1
+        if left > 0:
+            square = near_product(field, square, square, modulus)
+    return rests_to(whole(field, 1), modulus) if result is None else result
+
+
+def times_letters(field, member, exponent, modulus):
+    """The member times a power of r, each integer a rest."""
+    if exponent > MOST_TURNS:
+        return near_product(field, member, near_power(field, letter_r(field), exponent, modulus), modulus)
+    result = member
+    for _ in range(exponent):
+        result = times_r(field, result)
+    return rests_to(result, modulus)
 
 
 def near_inverse(field, unit, modulus):
@@ -75,14 +102,22 @@ def lifted_root(field, polynomial, digit, depth):
     The polynomial has integers, the value 0 at the digit, and another slope there.
     """
     low = field.low
-    modulus = whole_power(field.prime, depth)
-    share = residue_inverse(field, residue_value(field, derived(polynomial), digit))
-    root = tuple([entry % modulus for entry in digit])
-    for _ in range(depth):
-        height = low_value(low, polynomial, root, modulus)
-        change = low_product_modulo(low, height, share, modulus)
+    slopes = derived(polynomial)
+    share = residue_inverse(field, residue_value(field, slopes, digit))
+    root = digit
+    known = 1
+    while known < depth:
+        # Each turn doubles the level to which the root, and the inverse of the slope there, are known.
+        known = min(2 * known, depth)
+        modulus = whole_power(field.prime, known)
+        change = low_product(low, low_value(low, polynomial, root, modulus), share)
         root = tuple([(entry - less) % modulus for entry, less in zip(root, change)])
-    return root
+        if known < depth:
+            product = low_product(low, low_value(low, slopes, root, modulus), share)
+            missing = low_sum(whole_low(field.plain_size, 2), [0 - entry for entry in product])
+            share = low_product_modulo(low, share, missing, modulus)
+    modulus = whole_power(field.prime, depth)
+    return tuple([entry % modulus for entry in root])
 
 
 def low_letter_turned(field, exponent, depth):

@@ -30,7 +30,8 @@ def one_root(field, digit, level):
     depth = plain_depth(field, level)
     modulus = whole_power(field.prime, depth)
     near = tuple([entry % modulus for entry in digit])
-    for _ in range(depth):
+    # Each turn raises a factor near to 1 to the power p ** f, which makes it nearer by f levels.
+    for _ in range(depth // field.plain_size + 1):
         near = low_power_modulo(field.low, near, field.residues, modulus)
     return with_low(field, near)
 

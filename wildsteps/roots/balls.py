@@ -1,9 +1,13 @@
 """Balls of members: which of them are closed, and which hold a root."""
 
-from wildsteps.fields.members import plus, rests_to, times_low, times_r, whole, with_low
+from wildsteps.fields.members import plus, rests_to, times_low, times_r, whole, whole_low, with_low
+from wildsteps.fields.near import times_letters
 from wildsteps.fields.residues import digit_by_index, residue_inverse, residue_of, residue_product
 from wildsteps.prime.whole import whole_power
 from wildsteps.roots.scales import Scale, lowered, value_to
+
+# No polynomial of the package has more roots than this.
+ALL_ROOTS = 7
 
 
 def residue_sum(field, one, other):
@@ -98,38 +102,80 @@ class Search:
         self.found = []
 
 
-def searched(scale, polynomial):
+def lone_place(rests):
+    """The only place at which a polynomial over the residues is not 0, None if there are several."""
+    places = [place for place, rest in enumerate(rests) if any(rest)]
+    return places[0] if len(places) == 1 else None
+
+
+def behind_zeros(scale, search, told, place):
+    """The ball behind as many digits 0 as are alike: within each of these balls 0 is the only root, so often.
+
+    The numbers leave residues at this place alone.
+    """
+    field = scale.home
+    ball, value, numbers = told
+    heights = [value_to(scale, number) for number in numbers[:place]]
+    # So often the number at the place keeps the least value.
+    often = max(1, min([height // (place - index) for index, height in enumerate(heights)]))
+    digit = whole_low(field.plain_size, 0)
+    for count in range(often):
+        search.opened.append((ball + (digit,) * count, value + count * place, [digit]))
+    moved = [times_letters(field, number, often * index, scale.modulus) for index, number in enumerate(numbers)]
+    more, inner = divided_out(scale, moved)
+    return ball + (digit,) * often, value + more, inner
+
+
+def balls_within(scale, search, told, rests):
+    """The parts of a ball that are not closed and hold no root that comes once; what else there is, is kept."""
+    ball, value, numbers = told
+    roots = residue_roots(scale.home, rests)
+    if len(roots) == 0:
+        search.closed.append((ball, value))
+        return []
+    search.opened.append((ball, value, [root[0] for root in roots]))
+    waiting = []
+    for digit, count in roots:
+        if count == 1:
+            search.found.append((ball + (digit,), value, numbers))
+        else:
+            more, inner = within_ball(scale, numbers, digit)
+            waiting.append((ball + (digit,), value + more, inner))
+    return waiting
+
+
+def searched(scale, polynomial, most):
     """All balls that are not closed, the greatest closed ones in roots modulo r, and all roots that come once.
 
     An opened ball is told with its value and the digits that are roots; a found root is the row of its first
-    digits, with the value and the numbers of the ball before the last digit.
+    digits, with the value and the numbers of the ball before the last digit. With so many roots the search ends.
     """
-    result = Search()
+    search = Search()
     value, numbers = begun(scale, polynomial)
     waiting = [((), value, numbers)]
-    while len(waiting) > 0:
-        ball, value, numbers = waiting.pop()
-        roots = residue_roots(scale.home, rests_of(scale.home, numbers))
-        if len(roots) == 0:
-            result.closed.append((ball, value))
-            continue
-        result.opened.append((ball, value, [root[0] for root in roots]))
-        for digit, count in roots:
-            if count == 1:
-                result.found.append((ball + (digit,), value, numbers))
-            else:
-                more, inner = within_ball(scale, numbers, digit)
-                waiting.append((ball + (digit,), value + more, inner))
-    return result
+    while len(waiting) > 0 and len(search.found) < most:
+        told = waiting.pop()
+        rests = rests_of(scale.home, told[2])
+        place = lone_place(rests)
+        if place is not None and place > 1:
+            waiting.append(behind_zeros(scale, search, told, place))
+        else:
+            waiting.extend(balls_within(scale, search, told, rests))
+    return search
 
 
 def member_of_row(field, row):
     """The member with a row of digits, each integer a rest."""
     modulus = whole_power(field.prime, len(row) // field.step_size + 1)
     result = whole(field, 0)
+    waiting = 0
     for digit in row[::-1]:
-        result = rests_to(plus(times_r(field, result), with_low(field, digit)), modulus)
-    return result
+        waiting = waiting + 1
+        if any(digit):
+            # All digits 0 since the last other one are taken at once.
+            result = plus(times_letters(field, result, waiting, modulus), with_low(field, digit))
+            waiting = 0
+    return times_letters(field, result, waiting, modulus)
 
 
 def root_member(scale, row, value, numbers):
@@ -143,10 +189,25 @@ def root_member(scale, row, value, numbers):
     return member_of_row(scale.home, digits)
 
 
+def scale_by_depth(field, depth):
+    """A scale deep enough for the search for the roots of a polynomial of this depth."""
+    return Scale(field, 2 * depth + 4)
+
+
+def root_by_depth(field, polynomial, depth):
+    """A near root of a polynomial of this depth, None if there is none."""
+    scale = scale_by_depth(field, depth)
+    search = searched(scale, polynomial, 1)
+    if len(search.found) == 0:
+        return None
+    row, value, numbers = search.found[0]
+    return root_member(scale, row, value, numbers)
+
+
 def roots_by_depth(field, polynomial, depth):
     """The near roots of a polynomial of this depth, in the order of the rows of their digits."""
-    scale = Scale(field, 2 * depth + 4)
-    found = sorted(searched(scale, polynomial).found, key=first_of)
+    scale = scale_by_depth(field, depth)
+    found = sorted(searched(scale, polynomial, ALL_ROOTS).found, key=first_of)
     return tuple([root_member(scale, row, value, numbers) for row, value, numbers in found])
 
 
@@ -157,7 +218,7 @@ def first_of(row):
 
 def count_by_depth(field, polynomial, depth):
     """How many roots a polynomial of this depth has."""
-    return len(searched(Scale(field, 2 * depth + 4), polynomial).found)
+    return len(searched(scale_by_depth(field, depth), polynomial, ALL_ROOTS).found)
 
 
 def all_digits(field):

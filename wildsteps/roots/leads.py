@@ -1,15 +1,18 @@
 """Finding and judging pairs of members that tell maps from one field into another one."""
 
 from wildsteps.fields.fields import has_member_form
-from wildsteps.fields.members import minus, plus, rests_to, times, value_in, whole, whole_low, with_low
+from wildsteps.fields.members import letter_t, minus, plus, rests_to, times, value_in, whole, whole_low, with_low
 from wildsteps.fields.near import lifted_root
-from wildsteps.fields.residues import digit_by_index, is_residue_root, residue_of
+from wildsteps.fields.residues import residue_of, residue_power, residue_root
 from wildsteps.fields.steps import letter_slope
 from wildsteps.prime.whole import whole_power
-from wildsteps.roots.balls import Search, root_member, searched
+from wildsteps.roots.balls import ALL_ROOTS, root_member, searched
 from wildsteps.roots.near import is_value_above, slope_value
 from wildsteps.roots.over import value_over, whole_over
 from wildsteps.roots.scales import Scale, lifted_near
+
+# There are at most as many maps as the degree of a field.
+MOST_MAPS = 7
 
 
 def low_image(further, low_member, powers):
@@ -80,14 +83,31 @@ def low_residues(field, further):
     """The digits of the further field that are roots of the low polynomial, ascending."""
     if further.plain_size % field.plain_size != 0:
         return []
+    if field.low == further.low or field.plain_size == 1:
+        first = residue_of(further, own_letter(field, further))
+    else:
+        first = residue_root(further, field.low)
+    # All other roots are made of one by powers.
+    digits = [first]
+    for _ in range(field.plain_size - 1):
+        digits.append(residue_power(further, digits[-1], field.prime))
+    return sorted(digits)
+
+
+def own_letter(field, further):
+    """The letter t of a field as a low member of another one with the same low polynomial, or if it is an integer."""
     if field.plain_size == 1:
-        return [residue_of(further, whole_low(further.plain_size, -field.low[0]))]
-    digits = [digit_by_index(further, index) for index in range(further.residues)]
-    return [digit for digit in digits if is_residue_root(further, field.low, digit)]
+        return whole_low(further.plain_size, 0 - field.low[0])
+    return letter_t(further)
 
 
 def letter_near(field, further, digit, depth):
     """The member near to a digit at which the low polynomial is 0 modulo p ** depth."""
+    if field.low == further.low or field.plain_size == 1:
+        letter = own_letter(field, further)
+        if residue_of(further, letter) == digit:
+            modulus = whole_power(field.prime, depth)
+            return with_low(further, tuple([entry % modulus for entry in letter]))
     return with_low(further, lifted_root(further, field.low, digit, depth))
 
 
@@ -102,18 +122,24 @@ def told_letters(field, further):
     return [letter_near(field, further, digit, depth) for digit in low_residues(field, further)]
 
 
-def searched_image(field, further, letter):
-    """What is found of the roots of the image of the top polynomial."""
-    if field.step_size > 1 and further.step_size % field.step_size != 0:
-        return Search()
-    scale = Scale(further, 2 * image_depth(field, further) + 4)
-    return searched(scale, top_image(field, further, letter))
+def do_steps_divide(field, further):
+    """Whether the step sizes let a map be."""
+    return further.step_size % field.step_size == 0
 
 
-def roots_of_image(field, further, letter):
+def image_scale(field, further):
+    """A scale deep enough for the search for the roots of the images of the top polynomial."""
+    return Scale(further, 2 * image_depth(field, further) + 4)
+
+
+def searched_image(field, scale, letter, most):
+    """What is found of the roots of the image of the top polynomial, until there are so many."""
+    return searched(scale, top_image(field, scale.home, letter), most)
+
+
+def roots_of_image(field, scale, letter):
     """Near roots of the image of the top polynomial, in the order of the rows of digits of the roots."""
-    scale = Scale(further, 2 * image_depth(field, further) + 4)
-    found = sorted(searched_image(field, further, letter).found, key=row_of)
+    found = sorted(searched_image(field, scale, letter, ALL_ROOTS).found, key=row_of)
     return [root_member(scale, row, value, numbers) for row, value, numbers in found]
 
 
@@ -124,20 +150,50 @@ def row_of(told):
 
 def found_leads(field, further):
     """One lead for each map, ordered by the first digits of the images of t, then by the digits of those of r."""
+    if not do_steps_divide(field, further):
+        return ()
+    scale = image_scale(field, further)
     leads = []
     for letter in told_letters(field, further):
-        leads.extend([(letter, step) for step in roots_of_image(field, further, letter)])
+        leads.extend([(letter, step) for step in roots_of_image(field, scale, letter)])
     return tuple(leads)
+
+
+def first_lead(field, further):
+    """The first one of these leads, None if there is none."""
+    if not do_steps_divide(field, further):
+        return None
+    scale = image_scale(field, further)
+    for letter in told_letters(field, further):
+        roots = roots_of_image(field, scale, letter)
+        if len(roots) > 0:
+            return (letter, roots[0])
+    return None
+
+
+def counted_leads(field, further, most):
+    """How many maps there are, counted until there are so many at least."""
+    if not do_steps_divide(field, further):
+        return 0
+    scale = image_scale(field, further)
+    count = 0
+    for letter in told_letters(field, further):
+        count = count + len(searched_image(field, scale, letter, most).found)
+        if count >= most:
+            return count
+    return count
 
 
 def lead_count(field, further):
     """How many maps there are."""
-    return sum([len(searched_image(field, further, letter).found) for letter in told_letters(field, further)])
+    return counted_leads(field, further, MOST_MAPS)
 
 
 def exact_images(field, further, pair, level):
     """The images of both letters by the map of a lead, near to the level at least."""
-    slope = pair_slope(field, further, pair)
+    slope = letter_slope(field) * (further.step_size // field.step_size)
+    if level <= slope + 1:
+        return pair
     depth = (level + 2 * slope) // further.step_size + 2
     letter = letter_near(field, further, pair_residue(further, pair), depth)
     return letter, lifted_near(further, top_image(field, further, letter), pair[1], slope, level)
@@ -157,4 +213,4 @@ def image_near(field, further, images, member, level):
 
 def has_lead(field, further):
     """Whether there is a map."""
-    return any([len(searched_image(field, further, letter).found) > 0 for letter in told_letters(field, further)])
+    return counted_leads(field, further, 1) > 0

@@ -6,13 +6,12 @@ from wildsteps.fields.fields import check_field, check_member, has_member_form
 from wildsteps.fields.members import entries_of, nearest
 from wildsteps.fields.residues import residue_of
 from wildsteps.prime.numbers import check_level
-from wildsteps.roots.balls import leaf_count, leaves_of, searched
+from wildsteps.roots.balls import ALL_ROOTS, leaf_count, leaves_of
 from wildsteps.roots.fences import MOST_BALLS, judged_fence
-from wildsteps.roots.leads import do_tell_one_map, exact_images, found_leads, has_lead, image_depth, image_near
-from wildsteps.roots.leads import judged_lead, lead_count, low_height, low_residues, roots_of_image, told_letters
-from wildsteps.roots.leads import top_image
+from wildsteps.roots.leads import do_tell_one_map, exact_images, first_lead, found_leads, has_lead, image_near
+from wildsteps.roots.leads import image_scale, judged_lead, lead_count, low_height, low_residues, searched_image
+from wildsteps.roots.leads import told_letters, top_image
 from wildsteps.roots.near import is_value_above
-from wildsteps.roots.scales import Scale
 
 
 def check_fields(field, further):
@@ -32,11 +31,7 @@ def is_lead(field, further, value):
 def lead(field, further):
     """A lead, None if there is none."""
     check_fields(field, further)
-    for letter in told_letters(field, further):
-        roots = roots_of_image(field, further, letter)
-        if len(roots) > 0:
-            return (letter, roots[0])
-    return None
+    return first_lead(field, further)
 
 
 def all_leads(field, further):
@@ -75,13 +70,12 @@ def are_alike(field, further):
     return field.degree == further.degree and has_lead(field, further)
 
 
-def image_fence(field, further, letter):
+def image_fence(field, scale, letter):
     """The coarsest fence of the image of the top polynomial, that has no root."""
-    scale = Scale(further, 2 * image_depth(field, further) + 4)
-    search = searched(scale, top_image(field, further, letter))
-    if leaf_count(further, search) > MOST_BALLS:
+    search = searched_image(field, scale, letter, ALL_ROOTS)
+    if leaf_count(scale.home, search) > MOST_BALLS:
         raise TooMany(MOST_BALLS)
-    return leaves_of(further, search)
+    return leaves_of(scale.home, search)
 
 
 def bars(field, further):
@@ -89,7 +83,8 @@ def bars(field, further):
     check_fields(field, further)
     if has_lead(field, further):
         return None
-    return tuple([(letter, image_fence(field, further, letter)) for letter in told_letters(field, further)])
+    scale = image_scale(field, further)
+    return tuple([(letter, image_fence(field, scale, letter)) for letter in told_letters(field, further)])
 
 
 def is_bar(field, further, value):

@@ -4,12 +4,13 @@ from wildsteps.errors import InvalidOperation, Refused, TooMany
 from wildsteps.fields.fields import check_field, check_member, has_member_form
 from wildsteps.fields.members import nearest, value_in
 from wildsteps.prime.numbers import check_level
-from wildsteps.roots.balls import count_by_depth, leaf_count, leaves_of, roots_by_depth, searched
+from wildsteps.roots.balls import count_by_depth, leaf_count, leaves_of, root_by_depth, root_member
+from wildsteps.roots.balls import roots_by_depth, scale_by_depth, searched
 from wildsteps.roots.depths import resultant_value
 from wildsteps.roots.fences import judged_fence
 from wildsteps.roots.near import are_of_one_root, is_root_near, slope_value
 from wildsteps.roots.over import check_over, derived_over, has_over_form, value_over
-from wildsteps.roots.scales import Scale, lifted_near
+from wildsteps.roots.scales import lifted_near
 
 MAX_OVER_DEGREE = 6
 MAX_DEPTH = 66
@@ -96,21 +97,32 @@ def depth_to_search(field, polynomial):
 
 def near_root(field, polynomial):
     """A near root, None if there is none."""
-    found = near_roots(field, polynomial)
-    if len(found) == 0:
-        return None
-    return found[0]
+    return root_by_depth(field, polynomial, depth_to_search(field, polynomial))
+
+
+def told_fence(field, search):
+    """The coarsest fence, refused if it has too many balls."""
+    if leaf_count(field, search) > MAX_BALLS:
+        raise TooMany(MAX_BALLS)
+    return leaves_of(field, search)
 
 
 def fence(field, polynomial):
     """The coarsest fence, None if there is none."""
-    depth = depth_to_search(field, polynomial)
-    search = searched(Scale(field, 2 * depth + 4), polynomial)
+    search = searched(scale_by_depth(field, depth_to_search(field, polynomial)), polynomial, 1)
     if len(search.found) > 0:
         return None
-    if leaf_count(field, search) > MAX_BALLS:
-        raise TooMany(MAX_BALLS)
-    return leaves_of(field, search)
+    return told_fence(field, search)
+
+
+def root_or_fence(field, polynomial):
+    """The pair of the word for a near root, or for a fence, and of one of them."""
+    scale = scale_by_depth(field, depth_to_search(field, polynomial))
+    search = searched(scale, polynomial, 1)
+    if len(search.found) > 0:
+        row, value, numbers = search.found[0]
+        return ("root", root_member(scale, row, value, numbers))
+    return ("fence", told_fence(field, search))
 
 
 def roots_number(field, polynomial):

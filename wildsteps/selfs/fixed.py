@@ -6,11 +6,14 @@ from wildsteps.fields.tables import number_trace, trace_rows
 from wildsteps.parts.parts import MAX_CLOSE, closeness, is_unsplit
 from wildsteps.prime.whole import digits_in_base, exponent_of, inverse_modulo, whole_power
 from wildsteps.roots.balls import roots_by_depth
-from wildsteps.roots.leads import found_leads, image_near
+from wildsteps.roots.leads import image_near
 from wildsteps.roots.near import slope_value
 from wildsteps.roots.over import whole_over
 from wildsteps.selfs.images import leaving_maps, map_images
 
+# Most parts have a polynomial that few levels tell.
+FIRST_LEVEL = 24
+FIRST_TURNS = 9
 NEAR_LEVEL = 80
 MOST_DEPTH = 66
 
@@ -68,22 +71,31 @@ def is_close_enough(field, value):
     return value is not None and value <= MAX_CLOSE and field.step_size * value <= MOST_DEPTH
 
 
-def fixed_polynomial(field, part):
-    """A polynomial with integers whose roots make the field that a part leaves."""
+def polynomial_to(field, leads, part, levels, most):
+    """A polynomial that powers of the prime up to some exponent tell, None if none of so many is told by them."""
+    prime = field.prime
     degree = field.degree // len(part)
-    if degree == 1:
-        return (0, 1)
-    leads = found_leads(field, field)
-    members = added_images(field, leads, part, NEAR_LEVEL * field.step_size)
-    modulus = whole_power(field.prime, NEAR_LEVEL)
-    index = 1
-    while True:
-        member = mixed(field, members, digits_in_base(field.prime, index, len(members)))
+    members = added_images(field, leads, part, levels * field.step_size)
+    modulus = whole_power(prime, levels)
+    # Quotients by the size of the part, and by the integers up to the degree, lose so much.
+    lost = sum([exponent_of(prime, number) for number in [len(part)] + list(range(1, degree + 1))])
+    for index in range(1, most):
+        member = mixed(field, members, digits_in_base(prime, index, len(members)))
         polynomial = polynomial_within(field, member, len(part), degree, modulus)
-        value = closeness(field.prime, polynomial)
-        if is_close_enough(field, value):
-            return near_polynomial(field.prime, polynomial, value)
-        index = index + 1
+        value = closeness(prime, polynomial)
+        if is_close_enough(field, value) and 2 * value + 1 + lost <= levels:
+            return near_polynomial(prime, polynomial, value)
+    return None
+
+
+def fixed_polynomial(field, leads, part):
+    """A polynomial with integers whose roots make the field that a part leaves."""
+    if field.degree == len(part):
+        return (0, 1)
+    polynomial = polynomial_to(field, leads, part, FIRST_LEVEL, FIRST_TURNS)
+    if polynomial is None:
+        return polynomial_to(field, leads, part, NEAR_LEVEL, whole_power(field.prime, field.degree))
+    return polynomial
 
 
 def near_polynomial(prime, polynomial, value):
@@ -97,9 +109,8 @@ def is_monic(value, degree):
     return is_integer_tuple(value) and len(value) == degree + 1 and value[-1] == 1
 
 
-def has_left_root(field, part, polynomial, value):
+def has_left_root(field, leads, part, polynomial, value):
     """Whether a root in the field of a polynomial, its discriminant having the value, is left by all of a part."""
-    leads = found_leads(field, field)
     numbers = whole_over(field, polynomial)
     for root in roots_by_depth(field, numbers, field.step_size * value):
         kept = leaving_maps(field, leads, root, slope_value(field, numbers, root))
@@ -108,7 +119,7 @@ def has_left_root(field, part, polynomial, value):
     return False
 
 
-def judged_polynomial(field, part, value):
+def judged_polynomial(field, leads, part, value):
     """Whether the value is a polynomial for the field that a part leaves."""
     if not is_monic(value, field.degree // len(part)):
         return False
@@ -116,4 +127,4 @@ def judged_polynomial(field, part, value):
     if closest is None or closest > MAX_CLOSE:
         return False
     polynomial = near_polynomial(field.prime, value, closest)
-    return is_unsplit(field.prime, polynomial) and has_left_root(field, part, polynomial, closest)
+    return is_unsplit(field.prime, polynomial) and has_left_root(field, leads, part, polynomial, closest)

@@ -11,7 +11,7 @@ from wildsteps.roots.over import whole_over
 from wildsteps.roots.roots import MAX_DEPTH
 from wildsteps.selfs.fixed import fixed_polynomial, judged_polynomial
 from wildsteps.selfs.groups import closed_lots, is_same_both_ways
-from wildsteps.selfs.images import leaving_maps, table_of
+from wildsteps.selfs.images import are_leads_closed, leaving_maps, table_of
 
 
 def self_number(field):
@@ -58,16 +58,26 @@ def self_parts(field):
     return closed_lots(table_of(field))
 
 
-def check_part(field, part):
-    """Refuse what is no part of the group."""
-    if not is_integer_tuple(part) or part not in self_parts(field):
+def is_lot_of_maps(value, many):
+    """Whether the value is an ascending tuple, not empty, of indices of so many maps."""
+    if not is_integer_tuple(value) or not 1 <= len(value) <= many:
+        return False
+    return list(value) == [index for index in range(many) if index in value]
+
+
+def leads_with_part(field, part):
+    """One lead for each self map, refused unless the part is one of their group."""
+    leads = found_leads(field, field)
+    # In a group with finitely many members, what has all products has the identity, too.
+    if not is_lot_of_maps(part, len(leads)) or not are_leads_closed(field, leads, part):
         raise InvalidLot("no part of the group of self maps")
+    return leads
 
 
 def fixed_size(field, part):
     """The degree of the field within that all maps of a part leave."""
     check_field(field)
-    check_part(field, part)
+    leads_with_part(field, part)
     return field.degree // len(part)
 
 
@@ -92,12 +102,10 @@ def fixed_maps(field, polynomial):
 def part_polynomial(field, part):
     """A polynomial with integers for the field within that a part leaves."""
     check_field(field)
-    check_part(field, part)
-    return fixed_polynomial(field, part)
+    return fixed_polynomial(field, leads_with_part(field, part), part)
 
 
 def is_part_polynomial(field, part, value):
     """Whether the value is such a polynomial."""
     check_field(field)
-    check_part(field, part)
-    return judged_polynomial(field, part, value)
+    return judged_polynomial(field, leads_with_part(field, part), part, value)

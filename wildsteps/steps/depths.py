@@ -4,24 +4,25 @@ from wildsteps.fields.members import letter_r, letter_t, minus, value_in
 from wildsteps.fields.residues import residue_of
 from wildsteps.fields.steps import letter_slope
 from wildsteps.prime.lines import is_less
-from wildsteps.roots.leads import found_leads, pair_residue
+from wildsteps.roots.leads import pair_residue
 from wildsteps.roots.near import is_value_above
 
 
-def depth_of_map(field, pair):
-    """The depth of the self map of a lead, None if it is endless."""
+def depth_of_map(field, pair, slope):
+    """The depth of the self map of a lead, None if it is endless; the slope is that of the top polynomial at r."""
     if pair_residue(field, pair) != residue_of(field, letter_t(field)):
         return -1
     value = value_in(field, minus(pair[1], letter_r(field)))
     # A lead is nearer to the image of r than the slope: only that of the map that leaves all is so near to r.
-    if is_value_above(value, letter_slope(field)):
+    if is_value_above(value, slope):
         return None
     return value - 1
 
 
-def map_depths(field):
-    """The depths of all self maps, in their order."""
-    return [depth_of_map(field, pair) for pair in found_leads(field, field)]
+def map_depths(field, leads):
+    """The depths of all self maps, told by leads, in their order."""
+    slope = letter_slope(field)
+    return [depth_of_map(field, pair, slope) for pair in leads]
 
 
 def lot_from(depths, ratio):

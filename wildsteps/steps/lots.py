@@ -3,7 +3,8 @@
 from wildsteps.checks import check_between
 from wildsteps.errors import InvalidOperation
 from wildsteps.fields.fields import check_field
-from wildsteps.selfs.selfs import check_part
+from wildsteps.roots.leads import found_leads
+from wildsteps.selfs.selfs import leads_with_part
 from wildsteps.steps.bends import line_of_field, phi_of, psi_of
 from wildsteps.steps.depths import lot_from, map_depths, steps_by_depths
 from wildsteps.steps.ratios import ratio_from
@@ -11,12 +12,16 @@ from wildsteps.steps.ratios import ratio_from
 LEAST_LOT = -1
 
 
+def depths_by_leads(field, leads):
+    """The depths of the self maps of a whole field, told by leads; other fields are refused."""
+    if len(leads) != field.degree:
+        raise InvalidOperation("the field is not whole")
+    return map_depths(field, leads)
+
+
 def whole_depths(field):
     """The depths of the self maps of a whole field; other fields are refused."""
-    depths = map_depths(field)
-    if len(depths) != field.degree:
-        raise InvalidOperation("the field is not whole")
-    return depths
+    return depths_by_leads(field, found_leads(field, field))
 
 
 def map_depth(field, index):
@@ -56,8 +61,7 @@ def round_size(field):
 def steps_at_part(field, part):
     """The steps of the field over the field within that a part leaves."""
     check_field(field)
-    check_part(field, part)
-    depths = whole_depths(field)
+    depths = depths_by_leads(field, leads_with_part(field, part))
     return steps_by_depths([depths[index] for index in part])
 
 

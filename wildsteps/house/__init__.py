@@ -1,0 +1,1 @@
+"""A shelf of things with claims about them, and its log."""

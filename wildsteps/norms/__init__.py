@@ -1,0 +1,1 @@
+"""Norms of fields, and lots of numbers of finite index."""

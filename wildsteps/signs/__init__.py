@@ -1,0 +1,1 @@
+"""Signs of two numbers at all places."""

@@ -1,0 +1,1 @@
+"""Units, their powers, roots of one, exponentials and logarithms."""
