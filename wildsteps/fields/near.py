@@ -7,7 +7,7 @@ from wildsteps.fields.members import letter_r, letter_t, low_product, low_produc
 from wildsteps.fields.members import rests_to, times, times_r, times_whole, whole, whole_low, with_low
 from wildsteps.fields.residues import residue_inverse, residue_of, residue_power, residue_value
 from wildsteps.prime.polys import derived
-from wildsteps.prime.whole import whole_power
+from wildsteps.prime.whole import power_modulo, whole_power
 
 # Up to so many powers of r are faster taken one by one.
 MOST_TURNS = 6
@@ -42,8 +42,22 @@ def times_letters(field, member, exponent, modulus):
     return rests_to(result, modulus)
 
 
+def whole_inverse(prime, number, modulus):
+    """The rest whose product with an integer leaves 1, modulo a power of a prime that does not divide it."""
+    one = 1 % modulus
+    inverse = power_modulo(number, prime - 2, prime) % modulus
+    product = number * inverse % modulus
+    while product != one:
+        # Each turn doubles the level to which the product is near to 1.
+        inverse = inverse * (2 - product) % modulus
+        product = number * inverse % modulus
+    return inverse
+
+
 def near_inverse(field, unit, modulus):
     """The member of rests whose product with a member of value 0 leaves 1."""
+    if field.degree == 1:
+        return ((whole_inverse(field.prime, unit[0][0], modulus),),)
     one = rests_to(whole(field, 1), modulus)
     inverse = with_low(field, residue_inverse(field, residue_of(field, unit[0])))
     product = near_product(field, unit, inverse, modulus)

@@ -2,7 +2,7 @@
 
 from wildsteps.errors import InvalidNumber, InvalidOperation, ParseError, Refused, TooMany, WildError
 from wildsteps.fields.fields import Field
-from wildsteps.house.forms import EDITS, MEMBERS, QUESTIONS
+from wildsteps.house.forms import EDITS, MEMBERS, QUESTIONS, is_short
 from wildsteps.house.shelf import Shelf
 from wildsteps.house.things import MAKERS
 from wildsteps.text.pieces import integer_of_piece, is_integer_piece, is_like, piece_of, told_pieces
@@ -120,7 +120,8 @@ def begun_shelf(line):
 def is_line_done(shelf, line):
     """Do the call that a line tells; whether it tells one that is done."""
     call = call_of_line(line)
-    if call is None or call_line(call) != line:
+    # No call takes longer integers, and Python writes no very long ones.
+    if call is None or not is_short(call[1]) or call_line(call) != line:
         return False
     word, told = call
     try:
