@@ -159,10 +159,14 @@ def times_often(field, member, exponent):
 def value_in(field, member):
     """The value of a member, None for 0."""
     prime, step_size = field.prime, field.step_size
-    values = []
+    least = None
     for place, row in enumerate(member):
-        values.extend([step_size * exponent_of(prime, entry) + place for entry in row if entry != 0])
-    return min(values, default=None)
+        for entry in row:
+            if entry != 0:
+                value = step_size * exponent_of(prime, entry) + place
+                if least is None or value < least:
+                    least = value
+    return least
 
 
 def rests_to(member, modulus):

@@ -1,6 +1,6 @@
 """Balls of members: which of them are closed, and which hold a root."""
 
-from wildsteps.fields.members import plus, rests_to, times_low, times_r, whole, whole_low, with_low
+from wildsteps.fields.members import low_product, plus, rests_to, times_low, times_r, whole, whole_low, with_low
 from wildsteps.fields.near import times_letters
 from wildsteps.fields.residues import digit_by_index, residue_inverse, residue_of, residue_product
 from wildsteps.prime.whole import whole_power
@@ -10,18 +10,15 @@ from wildsteps.roots.scales import Scale, lowered, value_to
 ALL_ROOTS = 7
 
 
-def residue_sum(field, one, other):
-    """The sum of two digits as residues."""
-    return residue_of(field, [number + further for number, further in zip(one, other)])
-
-
 def divided_at(field, rests, digit):
     """The quotient of a polynomial over the residues by x less a digit, and its value there."""
+    low, prime = field.low, field.prime
     quotient = []
     result = rests[-1]
     for rest in rests[-2::-1]:
         quotient.append(result)
-        result = residue_sum(field, residue_product(field, result, digit), rest)
+        share = low_product(low, result, digit)
+        result = tuple([(number + further) % prime for number, further in zip(share, rest)])
     return quotient[::-1], result
 
 
@@ -70,6 +67,8 @@ def rests_of(field, numbers):
 def divided_out(scale, numbers):
     """The least value of the numbers, and all of them divided by a member of this value."""
     least = min([value_to(scale, number) for number in numbers])
+    if least == 0:
+        return 0, numbers
     return least, [lowered(scale, number, least) for number in numbers]
 
 

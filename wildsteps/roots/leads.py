@@ -1,7 +1,8 @@
 """Finding and judging pairs of members that tell maps from one field into another one."""
 
 from wildsteps.fields.fields import has_member_form
-from wildsteps.fields.members import letter_t, minus, plus, rests_to, times, value_in, whole, whole_low, with_low
+from wildsteps.fields.members import letter_t, minus, plus, rests_to, times, times_whole, value_in, whole
+from wildsteps.fields.members import whole_low, with_low
 from wildsteps.fields.near import lifted_root
 from wildsteps.fields.residues import residue_of, residue_power, residue_root
 from wildsteps.fields.steps import letter_slope
@@ -19,7 +20,8 @@ def low_image(further, low_member, powers):
     """The sum of the integers of a low member, each times a power of a member of another field."""
     result = whole(further, 0)
     for number, power in zip(low_member, powers):
-        result = plus(result, tuple([tuple([number * entry for entry in row]) for row in power]))
+        if number != 0:
+            result = plus(result, times_whole(power, number))
     return result
 
 
@@ -83,10 +85,8 @@ def low_residues(field, further):
     """The digits of the further field that are roots of the low polynomial, ascending."""
     if further.plain_size % field.plain_size != 0:
         return []
-    if field.low == further.low or field.plain_size == 1:
-        first = residue_of(further, own_letter(field, further))
-    else:
-        first = residue_root(further, field.low)
+    exact = own_letters(field, further)
+    first = residue_of(further, exact[0]) if len(exact) > 0 else residue_root(further, field.low)
     # All other roots are made of one by powers.
     digits = [first]
     for _ in range(field.plain_size - 1):
@@ -94,17 +94,20 @@ def low_residues(field, further):
     return sorted(digits)
 
 
-def own_letter(field, further):
-    """The letter t of a field as a low member of another one with the same low polynomial, or if it is an integer."""
+def own_letters(field, further):
+    """Roots of the low polynomial in another field, as low members, that are told without any search."""
     if field.plain_size == 1:
-        return whole_low(further.plain_size, 0 - field.low[0])
-    return letter_t(further)
+        return [whole_low(further.plain_size, 0 - field.low[0])]
+    if field.low != further.low:
+        return []
+    letter = letter_t(further)
+    # Both roots of a polynomial of degree 2 together are the number at x, with another sign.
+    return [letter, (0 - field.low[1], -1)] if field.plain_size == 2 else [letter]
 
 
 def letter_near(field, further, digit, depth):
     """The member near to a digit at which the low polynomial is 0 modulo p ** depth."""
-    if field.low == further.low or field.plain_size == 1:
-        letter = own_letter(field, further)
+    for letter in own_letters(field, further):
         if residue_of(further, letter) == digit:
             modulus = whole_power(field.prime, depth)
             return with_low(further, tuple([entry % modulus for entry in letter]))
