@@ -107,6 +107,12 @@ class QuestionsTest(unittest.TestCase, ErrorCase):
         zero, r = ((0,), (0,)), ((0,), (1,))
         self.assertIs(is_paper(2, THINGS, ("lead", "a", "a"), True, (zero, ((-2,), (-1,)))), True)
         self.assertIs(is_paper(2, THINGS, ("lead", "a", "a"), True, (zero, ((0,), (0,)))), False)
+        plain = {"a": A, "q": Field.plain(2, 1)}
+        for letter, step, told in ((0, 2, True), (0, 2 + 2 ** 90, True), (2, 2, True), (1, 2, False), (0, 1, False)):
+            pair = (((letter,), (0,)), ((step,), (0,)))
+            self.assertIs(is_paper(2, plain, ("lead", "q", "a"), True, pair), told)
+        self.assertIs(is_paper(2, plain, ("lead", "q", "a"), True, (((0,),), ((2,),))), False)
+        self.assertIs(is_paper(2, plain, ("lead", "a", "q"), True, (zero, ((2,), (0,)))), False)
         self.assertIs(is_paper(2, THINGS, ("norm", 2, "a"), True, r), True)
         self.assertIs(is_paper(2, THINGS, ("norm", 3, "a"), False, ((0, 1), (1, 2), (0, 1))), True)
         self.assertIs(is_paper(2, THINGS, ("norm", 5, "a"), False, ((0, 1), (1, 2), (0, 1))), False)

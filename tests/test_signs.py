@@ -299,6 +299,11 @@ class ProductsTest(unittest.TestCase, ErrorCase):
             for places in ((), (0, 2), (2, 3), (3, 5), (0, 2, 3, 5), (2, 3, 5, 7), (0, 7), (5, 7)):
                 self.check_product(one, places)
 
+    def test_primes_that_divide_often(self):
+        for one in (27, -125, 9 * 49, 3375, -3375, 9261, -42875, (27, 125), (-343, 27), 8 * 3375, 3 ** 5 * 7 ** 3, 81 * 625):
+            for places in ((), (0, 2), (2, 3), (3, 5), (5, 7), (3, 7), (0, 5), (2, 3, 5, 7), (0, 3, 5, 7)):
+                self.check_product(one, places)
+
     def test_nothing_given(self):
         for one in (1, 4, -1, 30, (5, 7)):
             self.assertIs(are_places_by_signs(one, (), ()), True)

@@ -97,8 +97,6 @@ def shelf_of_line(line):
         return None
     prime = integer_of_piece(pieces[1])
     groups = parted(pieces[2:])
-    if len(groups[0]) > 0:
-        return None
     things = {}
     for group in groups[1:]:
         things[" ".join(group[:1])] = thing_of_group(prime, group)

@@ -28,9 +28,7 @@ def level_of_powers(prime, exponent):
 
 
 def base_of(prime):
-    """The integer by whose powers units are told."""
-    if prime == 2:
-        return 5
+    """The integer by whose powers units are told, for an odd prime."""
     return 3 if prime == 7 else 2
 
 
