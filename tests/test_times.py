@@ -90,7 +90,7 @@ class RootTimesTest(unittest.TestCase, RatioCase):
 class SelfTimesTest(unittest.TestCase, RatioCase):
 
     def test_times(self):
-        for most, told in ((50, (map_depth, BOTH, 1)), (80, (self_table, BOTH)), (80, (self_parts, BOTH)), (50, (self_number, BOTH)),
+        for most, told in ((45, (map_depth, BOTH, 1)), (80, (self_table, BOTH)), (80, (self_parts, BOTH)), (45, (self_number, BOTH)),
                            (80, (fixed_size, BOTH, (0, 1))), (90, (steps_at_part, BOTH, (0, 1))),
                            (220, (part_polynomial, BOTH, (0, 1)))):
             self.check_ratio(most, 200, told, (member_product, SIX, MEMBER, MEMBER))
